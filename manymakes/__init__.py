@@ -1,0 +1,1 @@
+"""Manymakes: programs written once for many settings."""
