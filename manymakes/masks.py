@@ -51,3 +51,32 @@ def with_off(mask, k, n):
     """The settings of n switches that are in the mask once switch k is put off."""
     half = mask & (every(n) ^ switch_mask(k, n))
     return half | (half << (1 << k))
+
+
+def without(mask, other):
+    """Those settings of the mask that the other one has not."""
+    return mask ^ (mask & other)
+
+
+def all_of(pairs):
+    """All settings that tuples (mask, value) have."""
+    found = 0
+    for mask, value in pairs:
+        found = found | mask
+    return found
+
+
+def kept_pairs(pairs, mask):
+    """Tuples (mask, value), of each what is in the mask; none that comes to nothing."""
+    return [(there & mask, value) for there, value in pairs if there & mask != 0]
+
+
+def add_to(found, key, mask):
+    """Adds settings to those that a key has in a dict of masks; a key without settings does not come in."""
+    if mask != 0:
+        found[key] = found.get(key, 0) | mask
+
+
+def with_masks(found):
+    """The keys of a dict of masks, tuples all of them, sorted, each with its mask ahead."""
+    return [(found[key],) + key for key in sorted(found)]

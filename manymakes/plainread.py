@@ -10,10 +10,11 @@ class Block:
     """A block that is begun and not ended."""
 
     def __init__(self, word, body, other):
+        # The word of its row; else, where it is parted.
         self.word = word
         # The list that takes the statements which come.
         self.body = body
-        # The list that takes those behind an else; None where no else may come.
+        # The list that takes those behind an else; None where none can come.
         self.other = other
 
 
@@ -24,36 +25,38 @@ def read_plain(rows):
     for at, words in enumerate(rows):
         head = read_row(words, at)
         if head is not None:
-            check_place(head[0], at, blocks)
+            what = place_fault(head[0], [block.word for block in blocks])
+            if what is not None:
+                raise NoForm(at, what)
             put_in(head, tree, blocks)
     if len(blocks) > 0:
         raise NoForm(len(rows), "open")
     return tree
 
 
-def check_place(word, at, blocks):
-    """NoForm where a row that begins with this word may not stand within these blocks."""
-    if is_misplaced(word, blocks):
-        raise NoForm(at, "place")
-    if is_stray(word, blocks):
-        raise NoForm(at, "stray")
+def place_fault(word, within):
+    """The fault of a row that begins with this word within blocks, told by their words; None where it may be there."""
+    if is_misplaced(word, within):
+        return "place"
+    if is_stray(word, within):
+        return "stray"
+    return None
 
 
-def is_misplaced(word, blocks):
+def is_misplaced(word, within):
     """Whether a row that begins a statement may not begin it here."""
     if word in ("kind", "def"):
-        return len(blocks) > 0
+        return len(within) > 0
     if word in ("if", "while"):
-        return len(blocks) >= MOST_BLOCKS
-    # A def stands in no block, so only the outermost block can be one.
-    return word == "give" and (len(blocks) == 0 or blocks[0].word != "def")
+        return len(within) >= MOST_BLOCKS
+    return word == "give" and "def" not in within
 
 
-def is_stray(word, blocks):
+def is_stray(word, within):
     """Whether an end or else has no block that it could end or part."""
     if word == "else":
-        return len(blocks) == 0 or blocks[-1].other is None
-    return word == "end" and len(blocks) == 0
+        return len(within) == 0 or within[-1] != "if"
+    return word == "end" and len(within) == 0
 
 
 def put_in(head, tree, blocks):
@@ -63,8 +66,8 @@ def put_in(head, tree, blocks):
         blocks.pop()
     elif word == "else":
         block = blocks[-1]
+        block.word = word
         block.body = block.other
-        block.other = None
     else:
         body = blocks[-1].body if len(blocks) > 0 else tree
         body.append(begun(head, blocks))

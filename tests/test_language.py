@@ -145,6 +145,37 @@ class Code(unittest.TestCase):
                 self.assertIn(node.attr, methods | values | set(METHODS) | set(DOUBLE), (stem, node.lineno))
         self.assertEqual([name for name in sorted(methods) if name.startswith("_") and name not in DOUBLE], [])
 
+    def test_values_are_given_through_a_local_name(self):
+        for stem, node in walked():
+            if isinstance(node, ast.Attribute) and isinstance(node.ctx, ast.Store):
+                self.assertIsInstance(node.value, ast.Name, (stem, node.lineno))
+
+    def test_methods_and_values_bear_no_name_of_pythons_own_values(self):
+        own = {name for value in ("", 0, [], {}, set(), b"", ()) for name in dir(value)}
+        for stem, node in walked():
+            if isinstance(node, ast.ClassDef):
+                for part in node.body:
+                    if isinstance(part, ast.FunctionDef) and part.name not in DOUBLE:
+                        self.assertNotIn(part.name, own - set(METHODS) - {"add", "discard"}, stem)
+            if isinstance(node, ast.Attribute) and isinstance(node.ctx, ast.Store):
+                self.assertNotIn(node.attr, own, (stem, node.lineno))
+
+    def test_walked_at_once_and_sets(self):
+        for stem, tree in parsed().items():
+            above = {part: node for node in ast.walk(tree) for part in ast.iter_child_nodes(node)}
+            for node in ast.walk(tree):
+                if not isinstance(node, ast.Call):
+                    continue
+                around = above[node]
+                name = node.func.id if isinstance(node.func, ast.Name) else node.func.attr
+                taker = around.func.id if isinstance(around, ast.Call) and isinstance(around.func, ast.Name) else None
+                if name in ("zip", "enumerate", "reversed", "range", "items", "keys", "values"):
+                    walks = isinstance(around, (ast.For, ast.comprehension)) and around.iter is node
+                    takes = taker in ("list", "tuple", "dict", "sorted", "sum", "any", "all", "enumerate", "zip", "min", "max")
+                    self.assertTrue(walks or takes, (stem, node.lineno))
+                if name in ("set", "frozenset"):
+                    self.assertTrue(taker in ("len", "sorted") or isinstance(around, (ast.Compare, ast.BinOp)), (stem, node.lineno))
+
     def test_numbers_texts_and_is(self):
         for stem, node in walked():
             where = (stem, getattr(node, "lineno", None))
