@@ -171,3 +171,264 @@ def rows_by_body(rows):
             found.append(Row(at, words, body))
             opened += words[0] in ("if", "while")
     return found
+
+
+class Over(Exception):
+    def __init__(self, outcome):
+        self.outcome = outcome
+
+
+BOUND = 10 ** 18
+RECKONED = {
+    "+": lambda one, two: one + two - BOUND if one + two >= BOUND else one + two,
+    "-": lambda one, two: one - two if one >= two else one - two + BOUND,
+    "*": lambda one, two: one * two - one * two // BOUND * BOUND,
+    "less": lambda one, two: "yes" if one < two else "no",
+    "same": lambda one, two: "yes" if one == two else "no",
+    "and": lambda one, two: {"yesyes": "yes"}.get(one + two, "no"),
+    "or": lambda one, two: {"nono": "no"}.get(one + two, "yes"),
+    "not": lambda one: {"yes": "no", "no": "yes"}[one],
+}
+
+
+class Machine:
+    """Points 29 to 32 for the rows of a plain text without faults, by their words, with leaps from row to row."""
+
+    def __init__(self, words, most):
+        self.words, self.most, self.told, self.log = words, most, [], []
+        self.defs, self.kinds, self.leaps, opened = {}, {}, {}, []
+        for at, row in enumerate(words):
+            word = row[0] if row else ""
+            if word in ("def", "if", "while"):
+                opened.append([at])
+            elif word == "else":
+                opened[-1].append(at)
+            elif word == "end":
+                begin = opened.pop()
+                self.leaps[at] = begin[0] if words[begin[0]][0] == "while" else at + 1
+                # From the first row, where its EXPR is no or it is a def's, and from an else that is come to.
+                for place, other in zip(begin, begin[1:] + [at]):
+                    self.leaps[place] = other + 1
+            if word == "def":
+                self.defs.setdefault(row[1], at)
+            elif word == "kind":
+                self.kinds.setdefault(row[1], row[2::2])
+
+    def answer(self):
+        try:
+            self.go(0, {}, 0)
+        except Over as end:
+            return end.outcome, tuple(self.told), self.log
+        return "done", tuple(self.told), self.log
+
+    def go(self, at, names, depth):
+        while at < len(self.words):
+            row = self.words[at]
+            if not row or row[0] == "kind":
+                at += 1
+            elif row[0] in ("def", "else", "end"):
+                at = self.leaps[at]
+            else:
+                if len(self.log) == self.most:
+                    raise Over("long")
+                self.log.append(at)
+                value = self.value(taken_expr(list(row[2 if row[0] == "set" else 1:])), names, depth)
+                if row[0] == "give":
+                    return value
+                if row[0] == "set":
+                    names[row[1]] = value
+                elif row[0] == "tell":
+                    self.told.append(value)
+                at = self.leaps[at] if row[0] in ("if", "while") and value == "no" else at + 1
+
+    def value(self, e, names, depth):
+        word, name, inner = e
+        values = [self.value(one, names, depth) for one in inner]
+        if word in RECKONED:
+            return RECKONED[word](*values)
+        if word == "do":
+            if depth == 6:
+                raise Over("deep")
+            at = self.defs[name]
+            return self.go(at + 1, dict(zip(self.words[at][3::2], values)), depth + 1)
+        if word == "new":
+            return name, dict(zip(self.kinds[name], values))
+        if word == "of":
+            return values[0][1][name]
+        if word.isdigit() or word in ("yes", "no"):
+            return int(word) if word.isdigit() else word
+        if word not in names:
+            raise Over("unset")
+        return names[word]
+
+
+EXPRS = {
+    "num": "0/1/2/3/x/x/y/999999999999999999".split("/"),
+    "truth": "yes/no/t".split("/"),
+    "k": ["r"],
+    "p": ["q"],
+}
+DEEPER = {
+    "num": "+ num num/- num num/* num num/of u k/of v k/of v p".split("/"),
+    "truth": "less num num/same num num/and truth truth/or truth truth/not truth/of u p".split("/"),
+    "k": ["new k num num ."],
+    "p": ["new p truth num ."],
+}
+DOING = {"num": "do f num .", "truth": "do g truth num .", "k": "do h num k .", "p": "new p do g truth num . do f num . ."}
+DEFS = (("f", "num", (("x", "num"),)), ("g", "truth", (("t", "truth"), ("x", "num"))), ("h", "k", (("y", "num"), ("r", "k"))))
+
+
+class Writer:
+    """Writes a text over n switches that can be run in most settings; where wishes part them, rows, blocks and words."""
+
+    def __init__(self, chance, n):
+        self.chance, self.n = chance, n
+        # The settings in which rows have words from here on.
+        self.scope = full(n)
+        self.rows = []
+        # How likely an EXPR is to be a do where it may be.
+        self.doing = 0
+
+    def put(self, cells):
+        cells = [(mask & self.scope, words) for mask, words in cells]
+        cells.append((full(self.n) - sum(mask for mask, words in cells), []))
+        self.rows.append(row_text([cell for cell in cells if cell[0]], self.n, self.chance))
+
+    def row(self, tell):
+        """A row with words of its own in each cell."""
+        self.put([(mask, tell()) for mask in some_cells(self.chance, self.n)])
+
+    def within(self, scope, write):
+        before = self.scope
+        self.scope &= scope
+        write()
+        self.scope = before
+
+    def some_scope(self, often):
+        return self.chance.choice(some_cells(self.chance, self.n)) if self.chance.random() < often else full(self.n)
+
+    def expr(self, want, deep=3):
+        forms = EXPRS[want] if deep == 1 or self.chance.random() < 0.3 else DEEPER[want]
+        form = DOING[want] if deep > 1 and self.chance.random() < self.doing else self.chance.choice(forms)
+        words = []
+        for place, word in enumerate(form.split()):
+            if word in EXPRS and not (place == 1 and words[0] == "new"):
+                words += self.expr(word, deep - 1)
+            else:
+                words.append(word)
+        return words
+
+    def simple(self, giving):
+        """A row that begins no block; giving is the kind that a def gives."""
+        word = self.chance.choice(("set", "set", "set", "tell", "tell", "give" if giving else "tell", ""))
+        if word == "set":
+            name, want = self.chance.choice((("x", "num"), ("y", "num"), ("t", "truth"), ("r", "k"), ("q", "p")))
+            return [word, name] + self.expr(want)
+        if word == "tell":
+            return [word] + self.expr(self.chance.choice(("num", "truth")))
+        return [word] + self.expr(giving) if word else []
+
+    def begin_names(self, params):
+        """Sets all names that are no params, some of them in a branch alone."""
+        for name, words in (("x", "1"), ("y", "2"), ("t", "no"), ("r", "new k 3 4 ."), ("q", "new p yes 5 .")):
+            if name not in params:
+                branch = self.chance.random() < 0.1
+                if branch:
+                    self.row(lambda: ["if", self.chance.choice(("yes", "yes", "no"))])
+                self.row(lambda: ["set", name] + words.split())
+                if branch:
+                    self.put([(full(self.n), ["end"])])
+
+    def statements(self, many, blocks, giving):
+        for count in range(many):
+            if blocks == 0 or self.chance.random() < 0.55:
+                self.row(lambda: self.simple(giving))
+            elif self.chance.random() < 0.5:
+                self.branch(blocks, giving)
+            else:
+                self.loop(blocks, giving)
+
+    def inner(self, blocks, giving):
+        scope = self.some_scope(0.2)
+        self.within(scope, lambda: self.statements(self.chance.randrange(3), blocks - 1, giving))
+
+    def branch(self, blocks, giving):
+        scope = self.some_scope(0.3)
+        self.within(scope, lambda: self.row(lambda: ["if"] + self.expr("truth")))
+        self.inner(blocks, giving)
+        if self.chance.random() < 0.6:
+            self.within(scope & self.some_scope(0.3), lambda: self.put([(full(self.n), ["else"])]))
+            self.inner(blocks, giving)
+        self.within(scope, lambda: self.put([(full(self.n), ["end"])]))
+
+    def loop(self, blocks, giving):
+        """A while that counts, mostly; in some settings it is an if, or is not there at all."""
+        name = "abcd"[blocks]
+        scope = self.some_scope(0.3)
+        counted = lambda: ["while", "less", name, self.chance.choice("012235")]
+        self.put([(full(self.n), ["set", name, "0"])])
+        self.within(scope, lambda: self.row(lambda: counted() if self.chance.random() < 0.7 else [
+            self.chance.choice(("if", "while"))] + self.expr("truth")))
+        self.inner(blocks, giving)
+        self.put([(full(self.n), ["set", name, "+", name, "1"])])
+        self.within(scope, lambda: self.put([(full(self.n), ["end"])]))
+
+    def one_def(self, name, kind, params):
+        # Defs that do one another come to be deep soon.
+        self.doing = self.chance.choice((0, 0, 0.03, 0.2))
+        self.put([(full(self.n), ["def", name, kind] + [word for pair in params for word in pair])])
+        self.begin_names([param for param, usual in params])
+        if name == "f" and self.chance.random() < 0.7:
+            self.put([(full(self.n), "if less x 7".split())])
+            self.row(lambda: ["give"] + self.chance.choice((["0"], "+ x do f - x 1 .".split(), "do f + x 1 .".split(), ["x"])))
+            self.put([(full(self.n), ["end"])])
+        self.statements(self.chance.randrange(3), 2, kind)
+        self.row(lambda: ["give"] + self.expr(kind))
+        self.put([(full(self.n), ["end"])])
+
+    def taken(self):
+        rows, self.rows = self.rows, []
+        return rows
+
+
+WRONG = (
+    "end", "tell nothing", "tell + 1 yes", "if 1/end", "kind k w num", "kind p u num v truth", "def f num x num/give 7/end",
+    "def g num/give 8/end", "tell do nobody 1 .", "set n new k 1 .", "tell of u 1",
+)
+
+
+def run_text(chance, n, wrong=0):
+    """A text over n switches that can be run in all settings, but for those that have so many wrong blocks."""
+    writer = Writer(chance, n)
+    blocks = []
+    for count in range(wrong):
+        scope = writer.some_scope(1)
+        if scope != full(n):
+            for row in chance.choice(WRONG).split("/"):
+                writer.within(scope, lambda: writer.put([(full(n), row.split())]))
+            blocks.append(writer.taken())
+    for name, kind, params in DEFS:
+        # In some settings a def stands in one place, in the others in another one.
+        part = writer.some_scope(0.2)
+        for scope in (part, full(n) ^ part):
+            if scope:
+                writer.within(scope, lambda: writer.one_def(name, kind, params))
+                blocks.append(writer.taken())
+    writer.row(lambda: chance.choice(("kind k u num v num", "kind k v num u num")).split())
+    writer.put([(full(n), "kind p u truth v num".split())])
+    blocks += [[row] for row in writer.taken()]
+    writer.doing = chance.choice((0, 0.1, 0.3))
+    main = []
+    writer.begin_names([])
+    main.append(writer.taken())
+    for count in range(chance.randrange(1, 4)):
+        writer.statements(chance.randrange(1, 4), 3, None)
+        main.append(writer.taken())
+    chance.shuffle(blocks)
+    places = sorted(chance.randrange(len(blocks) + 1) for block in main)
+    for place, block in reversed(list(zip(places, main))):
+        blocks.insert(place, block)
+    rows = [row for block in blocks for row in block]
+    if len(rows) > 60 or any(len(row.split()) > 100 for row in rows):
+        return run_text(chance, n, wrong)
+    return "\n".join(rows)
