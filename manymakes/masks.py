@@ -18,6 +18,16 @@ def switch_mask(k, n):
     return mask
 
 
+def is_whole(value):
+    """Whether a value, whatever it is, is a whole number; truths are none."""
+    return isinstance(value, int) and not isinstance(value, bool)
+
+
+def is_mask(value, n):
+    """Whether a value, whatever it is, is a mask over n switches."""
+    return is_whole(value) and value >= 0 and value <= every(n)
+
+
 def has(mask, s):
     """Whether the mask has setting s."""
     return (mask >> s) & 1 == 1

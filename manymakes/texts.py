@@ -1,8 +1,8 @@
 """Texts with wishes: rows of words, some of them in groups that stand in some settings alone."""
 
 from manymakes.errors import NoGroup, NoSet, NoWish, TooMany
-from manymakes.masks import every, has, settings
-from manymakes.wishes import read_wish
+from manymakes.masks import every, has, is_whole, settings
+from manymakes.wishes import read_wish, shown_wish
 
 DEEPEST_GROUP = 5
 MOST_VARIANTS = 16
@@ -51,6 +51,11 @@ def group_mask(word, n, at):
         raise NoGroup(at)
 
 
+def in_group(row, mask, n):
+    """A group of all words of a row, which has some, that stands in just the settings of the mask."""
+    return "<" + shown_wish(mask, n) + " " + row + " >"
+
+
 def cut_row(row, s):
     """Those words of a row that stand in setting s."""
     return [word for word, mask in row if has(mask, s)]
@@ -71,9 +76,7 @@ def cut_text(text, n, s):
 
 def is_setting(s, n):
     """Whether s is a setting of n switches, whatever it is."""
-    if isinstance(s, bool) or not isinstance(s, int):
-        return False
-    return s >= 0 and s < (1 << n)
+    return is_whole(s) and s >= 0 and s < (1 << n)
 
 
 def variants(row, mask, at=0):

@@ -1,4 +1,8 @@
-"""Texts with wishes written by chance, and what the tests reckon of plain rows by their words alone."""
+"""Texts with wishes written by chance, and what the tests reckon of rows by their words alone."""
+
+import functools
+import itertools
+import re
 
 LETTERS = "abcdefghij"
 OPERATORS = ("+", "-", "*", "less", "same", "and", "or")
@@ -26,6 +30,114 @@ def wish(mask, n, k=0, s=0):
     if k == n:
         return str(mask >> s & 1)
     return "?" + LETTERS[k] + wish(mask, n, k + 1, s | 1 << k) + wish(mask, n, k + 1, s)
+
+
+def holds(wish, s):
+    """Whether a WISH, read from the front, holds for a setting, and what is left behind it."""
+    sign, rest = wish[0], wish[1:]
+    if sign in "01":
+        return sign == "1", rest
+    if sign in LETTERS:
+        return s // 2 ** LETTERS.index(sign) % 2 == 1, rest
+    one, rest = holds(rest, s)
+    if sign == "!":
+        return not one, rest
+    other, rest = holds(rest, s)
+    if sign == "?":
+        third, rest = holds(rest, s)
+        return (other if one else third), rest
+    return {"&": one and other, "|": one or other, "^": one != other}[sign], rest
+
+
+@functools.lru_cache(100000)
+def holding(wish, s):
+    return holds(wish, s)[0]
+
+
+def cut_by_hand(row, s):
+    """The words of a right row that stand in a setting, by points 11 and 13."""
+    out, around = [], []
+    for word in row.split(" ") if row else []:
+        if word == ">":
+            around.pop()
+        elif word[0] == "<":
+            around.append(holding(word[1:], s))
+        elif all(around):
+            out.append(word)
+    return out
+
+
+def read_by_hand(row, n):
+    """The plain words of a right row with their masks, each put under its groups by hand."""
+    out, around = [], []
+    for word in row.split(" ") if row else []:
+        if word == ">":
+            around.pop()
+        elif word[0] == "<":
+            around.append(word[1:])
+        else:
+            out.append((word, sum(2 ** s for s in range(2 ** n) if all(holding(wish, s) for wish in around))))
+    return out
+
+
+def shown_by_hand(mask, n):
+    """Point 8 word for word, over the settings of the mask one by one."""
+    return shown_settings(frozenset(s for s in range(2 ** n) if mask // 2 ** s % 2 == 1), n)
+
+
+def shown_settings(chosen, n):
+    if not chosen:
+        return "0"
+    if len(chosen) == 2 ** n:
+        return "1"
+    for k in range(n):
+        if any((s in chosen) != (s ^ 2 ** k in chosen) for s in range(2 ** n)):
+            on = frozenset(s for s in range(2 ** n) if s | 2 ** k in chosen)
+            off = frozenset(s for s in range(2 ** n) if (s | 2 ** k) - 2 ** k in chosen)
+            return "?" + LETTERS[k] + shown_settings(on, n) + shown_settings(off, n)
+    raise AssertionError("a mask that is neither empty nor full hangs on a switch")
+
+
+def whole_cut(text, s):
+    """A text cut by hand."""
+    return "\n".join(" ".join(cut_by_hand(row, s)) for row in text.split("\n"))
+
+
+def tidied_by_hand(row, n, rule):
+    """Point 35 for one row: its words by themselves, then those beside each other that stand in the same settings."""
+    standing = [(word, mask & rule) for word, mask in read_by_hand(row, n) if mask & rule]
+    words = []
+    for mask, some in itertools.groupby(standing, key=lambda pair: pair[1]):
+        group = [word for word, same in some]
+        words += group if mask == rule else ["<" + shown_by_hand(mask, n)] + group + [">"]
+    return " ".join(words)
+
+
+def some_wish(chance, n, deep=3):
+    leaves = ["0", "1"] + 4 * list(LETTERS[:n])
+    if deep == 1 or chance.random() < 0.4:
+        return chance.choice(leaves)
+    form = chance.choice("!&|^?" if n else "!&|^")
+    if form == "!":
+        return form + some_wish(chance, n, deep - 1)
+    ahead = form + chance.choice(LETTERS[:n]) if form == "?" else form
+    return ahead + some_wish(chance, n, deep - 1) + some_wish(chance, n, deep - 1)
+
+
+def grouped_row(chance, n, most=14):
+    """A row that is right, with groups in one another up to five deep."""
+    words, deep = [], 0
+    for count in range(chance.randrange(most)):
+        way = chance.choice("<<>www")
+        if way == "<" and deep < 5:
+            words.append("<" + some_wish(chance, n))
+            deep += 1
+        elif way == ">" and deep:
+            words.append(">")
+            deep -= 1
+        else:
+            words.append(chance.choice(["x", "tell", "+", "12", "~", "!", "a>", ">>", ">=", "x<a", "=<", "-", "\"", "\\"]))
+    return " ".join(words + [">"] * deep)
 
 
 def row_text(cells, n, chance):
@@ -112,7 +224,66 @@ def shared_rows(chance, n, length, some_row, wrong, choice, begin):
 
 
 def is_name(word):
-    return word.isalpha() and word.islower() and word not in LANGUAGE
+    return re.fullmatch("[a-z]{1,8}", word) is not None and word not in LANGUAGE
+
+
+def is_kind(word):
+    return word in ("num", "truth") or is_name(word)
+
+
+def depth_taken(words):
+    """How deep the EXPR is that is taken off the front of a list of words; LookupError where there is none."""
+    word = words.pop(0)
+    if is_name(word) or word in ("yes", "no") or re.fullmatch("0|[1-9][0-9]{0,17}", word):
+        return 1
+    many = 2 if word in OPERATORS else 1 if word in ("not", "of") else None
+    if word in ("do", "new", "of") and not is_name(words.pop(0)) or word not in OPERATORS + ("not", "do", "new", "of"):
+        raise LookupError(word)
+    inner = []
+    while len(inner) < many if many else words[0] != ".":
+        inner.append(depth_taken(words))
+    if not many:
+        words.pop(0)
+    return 1 + max(inner, default=0)
+
+
+def is_expr(words):
+    left = list(words)
+    try:
+        return depth_taken(left) <= 6 and not left
+    except LookupError:
+        return False
+
+
+def is_form(words):
+    """Point 16 for the words of a row that has some."""
+    word, rest = words[0], words[1:]
+    if word in ("else", "end"):
+        return not rest
+    if word in ("tell", "give", "if", "while"):
+        return is_expr(rest)
+    if word not in ("set", "kind", "def") or not rest or not is_name(rest.pop(0)):
+        return False
+    if word == "set":
+        return is_expr(rest)
+    if word == "def" and not (rest and is_kind(rest.pop(0))):
+        return False
+    names, kinds = rest[0::2], rest[1::2]
+    right = all(is_kind(kind) and (word == "def" or not is_name(kind)) for kind in kinds)
+    return right and all(map(is_name, names)) and len(names) == len(kinds) == len(set(names))
+
+
+def read_fault(rows):
+    """Point 17 for plain rows of words: (at, what), None where they can be read."""
+    within = ""
+    for at, words in enumerate(rows):
+        if words and not is_form(words):
+            return at, "form"
+        behind = moved(within, words[0]) if words else within
+        if behind is None:
+            return at, "stray" if words[0] in ("end", "else") else "place"
+        within = behind
+    return (len(rows), "open") if within else None
 
 
 def taken_expr(words):
@@ -171,6 +342,121 @@ def rows_by_body(rows):
             found.append(Row(at, words, body))
             opened += words[0] in ("if", "while")
     return found
+
+
+def due_names(words):
+    """Point 22 for plain rows of words, each fault asked for by itself."""
+    rows = rows_by_body(words)
+    named = [row for row in rows if row.word in ("def", "kind")]
+    faults = set()
+    for row in named:
+        if any(other.name == row.name and other.at < row.at for other in named):
+            faults.add((row.at, "twice", row.name))
+    kinds = {row.name: len(row.pairs) for row in reversed(named) if row.word == "kind"}
+    defs = {row.name: len(row.pairs) for row in reversed(named) if row.word == "def"}
+    params = {row.at: [name for name, kind in row.pairs] for row in rows if row.word == "def"}
+    for row in rows:
+        if row.word == "def":
+            for kind in [row.words[2]] + [kind for name, kind in row.pairs]:
+                if kind not in ("num", "truth") and kind not in kinds:
+                    faults.add((row.at, "nokind", kind))
+        for word, name, inner in all_exprs(row.e) if row.e else []:
+            if word in ("do", "new"):
+                there = defs if word == "do" else kinds
+                if name not in there:
+                    faults.add((row.at, "nofunc" if word == "do" else "nokind", name))
+                elif there[name] != len(inner):
+                    faults.add((row.at, "count", name))
+            if is_name(word) and word not in params.get(row.body, []):
+                above = [other for other in rows if other.word == "set" and other.body == row.body and other.at < row.at]
+                if word not in [other.name for other in above]:
+                    faults.add((row.at, "unset", word))
+    return sorted(faults)
+
+
+class KindsDue:
+    """Points 24 and 25 for plain rows of words, each fault asked for by itself, each kind from the beginning."""
+
+    def __init__(self, words):
+        self.rows = rows_by_body(words)
+        self.kinds = {row.name: dict(row.pairs) for row in self.rows if row.word == "kind"}
+        self.defs = {row.name: (row.words[2], [kind for name, kind in row.pairs]) for row in self.rows if row.word == "def"}
+        self.heads = {row.at: row for row in self.rows if row.word == "def"}
+
+    def name_kind(self, name, body):
+        params = dict(self.heads[body].pairs) if body is not None else {}
+        if name in params:
+            return params[name]
+        first = min((row for row in self.rows if (row.word, row.name, row.body) == ("set", name, body)), key=lambda row: row.at)
+        return self.kind(first.e, body)
+
+    def kind(self, e, body):
+        word, name, inner = e
+        if word.isdigit() or word in ("+", "-", "*"):
+            return "num"
+        if word in ("yes", "no", "less", "same", "and", "or", "not"):
+            return "truth"
+        if word == "do":
+            return self.defs[name][0]
+        if word == "new":
+            return name
+        if word == "of":
+            return self.kinds.get(self.kind(inner[0], body), {}).get(name)
+        return self.name_kind(word, body)
+
+    def unfit(self, e, body, due):
+        return self.kind(e, body) not in (None, due)
+
+    def expr_faults(self, e, body):
+        word, name, inner = e
+        dues = []
+        if word in ("+", "-", "*", "less", "same"):
+            dues = ["num", "num"]
+        elif word in ("and", "or", "not"):
+            dues = ["truth", "truth"]
+        elif word == "do":
+            dues = self.defs[name][1]
+        elif word == "new":
+            dues = list(self.kinds[name].values())
+        elif word == "of":
+            kind = self.kind(inner[0], body)
+            return ["field"] if kind is not None and name not in self.kinds.get(kind, {}) else []
+        return ["kind"] if any(self.unfit(one, body, due) for one, due in zip(inner, dues)) else []
+
+    def row_faults(self, row):
+        if row.word == "set":
+            return ["kind"] if self.name_kind(row.name, row.body) is not None and self.unfit(
+                row.e, row.body, self.name_kind(row.name, row.body)) else []
+        if row.word == "give":
+            return ["kind"] if self.unfit(row.e, row.body, self.heads[row.body].words[2]) else []
+        if row.word == "tell":
+            return ["tell"] if self.kind(row.e, row.body) in self.kinds else []
+        return ["truth"] if self.unfit(row.e, row.body, "truth") else []
+
+    def faults(self):
+        found = set()
+        for row in self.rows:
+            if row.e is not None:
+                found.update((row.at, what) for what in self.row_faults(row))
+                found.update((row.at, what) for e in all_exprs(row.e) for what in self.expr_faults(e, row.body))
+            if row.word == "def":
+                behind = [other for other in self.rows if other.body == row.at]
+                # The last of them is the def's own end: ahead of it a give row, else a row or end of another sort.
+                if len(behind) < 2 or behind[-2].word != "give":
+                    found.add((row.at, "give"))
+        return sorted(found)
+
+
+def due_kinds(words):
+    return KindsDue(words).faults()
+
+
+def due_faults(rows):
+    """All faults (at, what, name) of plain rows of words: of reading, where there is none of names, else of kinds."""
+    fault = read_fault(rows)
+    if fault:
+        return [fault + ("",)]
+    return due_names(rows) or [(at, what, "") for at, what in due_kinds(rows)]
 
 
 class Over(Exception):
@@ -260,6 +546,124 @@ class Machine:
         if word not in names:
             raise Over("unset")
         return names[word]
+
+
+def names_expr(chance, deep=3):
+    word = chance.choice(("1", "x", "x", "y", "yes") if deep == 1 else ("1", "x", "x", "y", "z", "do", "do", "new", "new", "of", "+", "and", "not"))
+    if word in ("do", "new"):
+        inner = [names_expr(chance, deep - 1) for count in range(chance.choice((0, 1, 1, 2)))]
+        return [word, chance.choice("fgk" if word == "do" else "kpf")] + sum(inner, []) + ["."]
+    if word == "of":
+        return [word, chance.choice("uvx")] + names_expr(chance, deep - 1)
+    if word in ("+", "and"):
+        return [word] + names_expr(chance, deep - 1) + names_expr(chance, deep - 1)
+    return ["not"] + names_expr(chance, deep - 1) if word == "not" else [word]
+
+
+def names_row(chance, word):
+    if word == "kind":
+        return [word, chance.choice("kkpf")] + chance.choice(("", "u num", "v truth", "u num v truth")).split()
+    if word == "def":
+        params = chance.choice(("", "x num", "x k", "y p x num", "z truth", "y f"))
+        return [word, chance.choice("ffgk"), chance.choice(("num", "truth", "k", "k", "p"))] + params.split()
+    if word == "set":
+        return [word, chance.choice("xyz")] + names_expr(chance)
+    if word in ("tell", "give", "if", "while"):
+        return [word] + names_expr(chance)
+    return [word] if word else []
+
+
+def kinds_expr(chance, want, deep=4):
+    """An EXPR that is, with kinds and defs as they mostly are, mostly of the kind wanted."""
+    if chance.random() < 0.1:
+        want = chance.choice(("num", "truth", "k", "p", "q", None))
+    forms = {"num": ["1", "x"], "truth": ["yes", "y"], "k": ["z"], "p": ["w"], "q": ["new q ."], None: ["of v w"]}[want]
+    if deep > 1:
+        forms = forms + {
+            "num": ["+ num num", "- num num", "* num num", "do f num .", "of u k"],
+            "truth": ["less num num", "same num num", "and truth truth", "or truth truth", "not truth", "do g k truth .",
+                      "of v k", "of u p"],
+            "k": ["do h .", "new k num truth ."],
+            "p": ["new p truth ."],
+            "q": [],
+            None: ["of v p", "of u q", "of u num", "of v truth", "of w k"],
+        }[want]
+    words = []
+    for place, word in enumerate(chance.choice(forms).split()):
+        # Small words at the place of an EXPR stand for one.
+        if place > 0 and word in ("num", "truth", "k", "p", "q") and not (place == 1 and words[0] in ("new", "do")):
+            words += kinds_expr(chance, word, deep - 1)
+        else:
+            words.append(word)
+    return words
+
+
+def kinds_row(chance, word):
+    if word == "set":
+        name = chance.choice("xyzw")
+        return [word, name] + kinds_expr(chance, {"x": "num", "y": "truth", "z": "k", "w": "p"}[name])
+    if word in ("if", "while"):
+        return [word] + kinds_expr(chance, "truth")
+    if word in ("tell", "give"):
+        return [word] + kinds_expr(chance, chance.choice(("num", "truth", "num", "truth", "k")))
+    return [word] if word else []
+
+
+def kind_or(chance, usual, others=("num", "truth", "k", "p", "q")):
+    return usual if chance.random() < 0.75 else chance.choice(others)
+
+
+def cut_by_cell(chance, n, tell):
+    """A row with words of its own in each cell."""
+    return row_text([(mask, tell()) for mask in some_cells(chance, n)], n, chance)
+
+
+def begin_of_body(chance, n, params):
+    """Rows that set all names that are no params, mostly in some settings within a block."""
+    rows = []
+    for name, want in (("x", "num"), ("y", "truth"), ("z", "k"), ("w", "p")):
+        usual = {"num": "1", "truth": "yes", "k": "new k 1 yes .", "p": "new p yes ."}
+        if name not in params:
+            part = some_cells(chance, n)[0]
+            blocks = [(part, ["if", "yes"]), (full(n) ^ part, [])] if chance.random() < 0.3 else []
+            # What is set first reads no name: so it is set in every setting, whatever kind comes of it.
+            firsts = lambda: ["set", name] + chance.choice([usual[want]] * 5 + ["2", "no", "of u 1", "new q .", "do f 1 ."]).split()
+            row = [cut_by_cell(chance, n, firsts)]
+            if blocks:
+                ends = [(mask, ["end"] if words else []) for mask, words in blocks]
+                row = [row_text([cell for cell in blocks if cell[0]], n, chance)] + row + [
+                    row_text([cell for cell in ends if cell[0]], n, chance)]
+            rows += row
+    return rows
+
+
+def kinds_text(chance, n):
+    """A text with just a few settings that have faults of names."""
+    def kind_row(name, fields):
+        words = ["kind", name]
+        for field, kind in fields:
+            words += [field, kind_or(chance, kind, ("num", "truth"))]
+        if chance.random() < 0.1 and fields:
+            words[2] = "w"
+        return words if chance.random() > 0.01 else []
+
+    def def_row(name, kind, params):
+        return ["def", name, kind_or(chance, kind)] + [
+            word for param, usual in params for word in (param, kind_or(chance, usual))]
+
+    parts = [[cut_by_cell(chance, n, lambda one=name, two=fields: kind_row(one, two))] for name, fields in (
+        ("k", [("u", "num"), ("v", "truth")]), ("p", [("u", "truth")]), ("q", []))]
+    body = "set set tell if if while else end end".split() + [""]
+    for name, kind, params in (("f", "num", [("x", "num")]), ("g", "truth", [("z", "k"), ("y", "truth")]), ("h", "k", [])):
+        rows = [cut_by_cell(chance, n, lambda: def_row(name, kind, params))]
+        rows += begin_of_body(chance, n, [param for param, usual in params])
+        rows += shared_rows(chance, n, chance.randrange(4), kinds_row, 0, body + ["give"], "d")
+        last = lambda: ["give"] + kinds_expr(chance, kind) if chance.random() < 0.8 else kinds_row(chance, "tell")
+        rows += [cut_by_cell(chance, n, last)] if chance.random() < 0.8 else []
+        parts.append(rows + ["end"])
+    parts.append(begin_of_body(chance, n, []) + shared_rows(chance, n, chance.randrange(1, 10), kinds_row, 0, body, ""))
+    chance.shuffle(parts)
+    return "\n".join(row for part in parts for row in part)
 
 
 EXPRS = {

@@ -10,7 +10,7 @@ from manymakes.names import plain_names, shared_names
 from manymakes.plainread import read_plain
 from manymakes.sharedread import read_shared
 from manymakes.texts import cut_rows, read_rows
-from programs import all_exprs, full, held, mask_of, row_text, rows_by_body, shared_rows, some_cells, some_mask
+from programs import due_kinds, full, held, kinds_text, mask_of, some_mask
 
 WHATS = ("kind", "field", "truth", "tell", "give")
 
@@ -46,172 +46,6 @@ def sound_mask(rows, n):
 def shared(text, n, mask=None):
     tree, sound = sound_mask(read_rows(text.replace("/", "\n"), n), n)
     return shared_kinds(tree, sound if mask is None else mask)
-
-
-class Due:
-    """Points 24 and 25 for plain rows of words, each fault asked for by itself, each kind from the beginning."""
-
-    def __init__(self, words):
-        self.rows = rows_by_body(words)
-        self.kinds = {row.name: dict(row.pairs) for row in self.rows if row.word == "kind"}
-        self.defs = {row.name: (row.words[2], [kind for name, kind in row.pairs]) for row in self.rows if row.word == "def"}
-        self.heads = {row.at: row for row in self.rows if row.word == "def"}
-
-    def name_kind(self, name, body):
-        params = dict(self.heads[body].pairs) if body is not None else {}
-        if name in params:
-            return params[name]
-        first = min((row for row in self.rows if (row.word, row.name, row.body) == ("set", name, body)), key=lambda row: row.at)
-        return self.kind(first.e, body)
-
-    def kind(self, e, body):
-        word, name, inner = e
-        if word.isdigit() or word in ("+", "-", "*"):
-            return "num"
-        if word in ("yes", "no", "less", "same", "and", "or", "not"):
-            return "truth"
-        if word == "do":
-            return self.defs[name][0]
-        if word == "new":
-            return name
-        if word == "of":
-            return self.kinds.get(self.kind(inner[0], body), {}).get(name)
-        return self.name_kind(word, body)
-
-    def unfit(self, e, body, due):
-        return self.kind(e, body) not in (None, due)
-
-    def expr_faults(self, e, body):
-        word, name, inner = e
-        dues = []
-        if word in ("+", "-", "*", "less", "same"):
-            dues = ["num", "num"]
-        elif word in ("and", "or", "not"):
-            dues = ["truth", "truth"]
-        elif word == "do":
-            dues = self.defs[name][1]
-        elif word == "new":
-            dues = list(self.kinds[name].values())
-        elif word == "of":
-            kind = self.kind(inner[0], body)
-            return ["field"] if kind is not None and name not in self.kinds.get(kind, {}) else []
-        return ["kind"] if any(self.unfit(one, body, due) for one, due in zip(inner, dues)) else []
-
-    def row_faults(self, row):
-        if row.word == "set":
-            return ["kind"] if self.name_kind(row.name, row.body) is not None and self.unfit(
-                row.e, row.body, self.name_kind(row.name, row.body)) else []
-        if row.word == "give":
-            return ["kind"] if self.unfit(row.e, row.body, self.heads[row.body].words[2]) else []
-        if row.word == "tell":
-            return ["tell"] if self.kind(row.e, row.body) in self.kinds else []
-        return ["truth"] if self.unfit(row.e, row.body, "truth") else []
-
-    def faults(self):
-        found = set()
-        for row in self.rows:
-            if row.e is not None:
-                found.update((row.at, what) for what in self.row_faults(row))
-                found.update((row.at, what) for e in all_exprs(row.e) for what in self.expr_faults(e, row.body))
-            if row.word == "def":
-                behind = [other for other in self.rows if other.body == row.at]
-                # The last of them is the def's own end: ahead of it a give row, else a row or end of another sort.
-                if len(behind) < 2 or behind[-2].word != "give":
-                    found.add((row.at, "give"))
-        return sorted(found)
-
-
-def some_expr(chance, want, deep=4):
-    """An EXPR that is, with kinds and defs as they mostly are, mostly of the kind wanted."""
-    if chance.random() < 0.1:
-        want = chance.choice(("num", "truth", "k", "p", "q", None))
-    forms = {"num": ["1", "x"], "truth": ["yes", "y"], "k": ["z"], "p": ["w"], "q": ["new q ."], None: ["of v w"]}[want]
-    if deep > 1:
-        forms = forms + {
-            "num": ["+ num num", "- num num", "* num num", "do f num .", "of u k"],
-            "truth": ["less num num", "same num num", "and truth truth", "or truth truth", "not truth", "do g k truth .",
-                      "of v k", "of u p"],
-            "k": ["do h .", "new k num truth ."],
-            "p": ["new p truth ."],
-            "q": [],
-            None: ["of v p", "of u q", "of u num", "of v truth", "of w k"],
-        }[want]
-    words = []
-    for place, word in enumerate(chance.choice(forms).split()):
-        # Small words at the place of an EXPR stand for one.
-        if place > 0 and word in ("num", "truth", "k", "p", "q") and not (place == 1 and words[0] in ("new", "do")):
-            words += some_expr(chance, word, deep - 1)
-        else:
-            words.append(word)
-    return words
-
-
-def some_row(chance, word):
-    if word == "set":
-        name = chance.choice("xyzw")
-        return [word, name] + some_expr(chance, {"x": "num", "y": "truth", "z": "k", "w": "p"}[name])
-    if word in ("if", "while"):
-        return [word] + some_expr(chance, "truth")
-    if word in ("tell", "give"):
-        return [word] + some_expr(chance, chance.choice(("num", "truth", "num", "truth", "k")))
-    return [word] if word else []
-
-
-def kind_or(chance, usual, others=("num", "truth", "k", "p", "q")):
-    return usual if chance.random() < 0.75 else chance.choice(others)
-
-
-def cut_by_cell(chance, n, tell):
-    """A row with words of its own in each cell."""
-    return row_text([(mask, tell()) for mask in some_cells(chance, n)], n, chance)
-
-
-def begin_of_body(chance, n, params):
-    """Rows that set all names that are no params, mostly in some settings within a block."""
-    rows = []
-    for name, want in (("x", "num"), ("y", "truth"), ("z", "k"), ("w", "p")):
-        usual = {"num": "1", "truth": "yes", "k": "new k 1 yes .", "p": "new p yes ."}
-        if name not in params:
-            part = some_cells(chance, n)[0]
-            blocks = [(part, ["if", "yes"]), (full(n) ^ part, [])] if chance.random() < 0.3 else []
-            # What is set first reads no name: so it is set in every setting, whatever kind comes of it.
-            firsts = lambda: ["set", name] + chance.choice([usual[want]] * 5 + ["2", "no", "of u 1", "new q .", "do f 1 ."]).split()
-            row = [cut_by_cell(chance, n, firsts)]
-            if blocks:
-                ends = [(mask, ["end"] if words else []) for mask, words in blocks]
-                row = [row_text([cell for cell in blocks if cell[0]], n, chance)] + row + [
-                    row_text([cell for cell in ends if cell[0]], n, chance)]
-            rows += row
-    return rows
-
-
-def some_text(chance, n):
-    """A text with just a few settings that have faults of names."""
-    def kind_row(name, fields):
-        words = ["kind", name]
-        for field, kind in fields:
-            words += [field, kind_or(chance, kind, ("num", "truth"))]
-        if chance.random() < 0.1 and fields:
-            words[2] = "w"
-        return words if chance.random() > 0.01 else []
-
-    def def_row(name, kind, params):
-        return ["def", name, kind_or(chance, kind)] + [
-            word for param, usual in params for word in (param, kind_or(chance, usual))]
-
-    parts = [[cut_by_cell(chance, n, lambda one=name, two=fields: kind_row(one, two))] for name, fields in (
-        ("k", [("u", "num"), ("v", "truth")]), ("p", [("u", "truth")]), ("q", []))]
-    body = "set set tell if if while else end end".split() + [""]
-    for name, kind, params in (("f", "num", [("x", "num")]), ("g", "truth", [("z", "k"), ("y", "truth")]), ("h", "k", [])):
-        rows = [cut_by_cell(chance, n, lambda: def_row(name, kind, params))]
-        rows += begin_of_body(chance, n, [param for param, usual in params])
-        rows += shared_rows(chance, n, chance.randrange(4), some_row, 0, body + ["give"], "d")
-        last = lambda: ["give"] + some_expr(chance, kind) if chance.random() < 0.8 else some_row(chance, "tell")
-        rows += [cut_by_cell(chance, n, last)] if chance.random() < 0.8 else []
-        parts.append(rows + ["end"])
-    parts.append(begin_of_body(chance, n, []) + shared_rows(chance, n, chance.randrange(1, 10), some_row, 0, body, ""))
-    chance.shuffle(parts)
-    return "\n".join(row for part in parts for row in part)
 
 
 class Kind(unittest.TestCase):
@@ -391,13 +225,13 @@ class Plain(unittest.TestCase):
         chance = random.Random(24)
         seen, clean, dark = {}, 0, 0
         for count in range(500):
-            words = cut_rows(read_rows(some_text(chance, 0), 0), 0)
+            words = cut_rows(read_rows(kinds_text(chance, 0), 0), 0)
             tree = read_plain(words)
             if plain_names(tree):
                 dark += 1
                 continue
             told = plain_kinds(tree)
-            self.assertEqual(told, Due(words).faults(), words)
+            self.assertEqual(told, due_kinds(words), words)
             clean += sum(bool(row) for row in words) - len(told)
             for at, what in told:
                 seen[what] = seen.get(what, 0) + 1
@@ -466,7 +300,7 @@ class Shared(unittest.TestCase):
         for s in held(mask):
             cut = plain_kinds(cut_tree(tree, s))
             self.assertEqual([fault[1:] for fault in told if fault[0] >> s & 1], cut, text)
-            self.assertEqual(cut, Due(cut_rows(rows, s)).faults(), text)
+            self.assertEqual(cut, due_kinds(cut_rows(rows, s)), text)
             for fault in cut:
                 due.setdefault(fault, []).append(s)
         self.assertEqual(told, [(mask_of(found),) + fault for fault, found in sorted(due.items())], text)
@@ -480,7 +314,7 @@ class Shared(unittest.TestCase):
             chance = random.Random(n)
             seen, asked = {}, 0
             for count in range((120, 120, 90, 60)[n]):
-                mask, faults = self.check(some_text(chance, n), n, some_mask(chance, n))
+                mask, faults = self.check(kinds_text(chance, n), n, some_mask(chance, n))
                 asked += len(held(mask))
                 for there, at, what in faults:
                     seen[what] = seen.get(what, 0) + 1
@@ -492,7 +326,7 @@ class Shared(unittest.TestCase):
         chance = random.Random(26)
         for n in range(3):
             for count in range(6):
-                text = some_text(chance, n)
+                text = kinds_text(chance, n)
                 for mask in range(full(n) + 1):
                     self.check(text, n, mask)
 
@@ -500,7 +334,7 @@ class Shared(unittest.TestCase):
         chance = random.Random(46)
         for n in (4, 5, 6):
             for count in range(3):
-                self.check(some_text(chance, n), n, full(n))
+                self.check(kinds_text(chance, n), n, full(n))
 
 
 class Own(unittest.TestCase):
@@ -515,7 +349,7 @@ class Own(unittest.TestCase):
         self.assertEqual(tree, before)
         tree[1][5].clear()
         tree.clear()
-        self.assertEqual(told, Due(words).faults())
+        self.assertEqual(told, due_kinds(words))
 
     def test_a_list_told_and_changed_changes_nothing(self):
         tree, sound = sound_mask(read_rows(self.TEXT, 2), 2)

@@ -10,7 +10,7 @@ from manymakes.names import plain_names, shared_names
 from manymakes.plainread import read_plain
 from manymakes.sharedread import read_shared
 from manymakes.texts import cut_rows, read_rows
-from programs import all_exprs, full, held, is_name, mask_of, rows_by_body, shared_text, some_mask
+from programs import due_names, full, held, mask_of, names_row, shared_text, some_mask
 
 
 def rows_of(text):
@@ -31,61 +31,6 @@ def shared_tree(text, n):
 def shared(text, n, mask=None):
     tree, sound = shared_tree(text.replace("/", "\n"), n)
     return shared_names(tree, sound if mask is None else mask)
-
-
-def due_names(words):
-    """Point 22 for plain rows of words, each fault asked for by itself."""
-    rows = rows_by_body(words)
-    named = [row for row in rows if row.word in ("def", "kind")]
-    faults = set()
-    for row in named:
-        if any(other.name == row.name and other.at < row.at for other in named):
-            faults.add((row.at, "twice", row.name))
-    kinds = {row.name: len(row.pairs) for row in reversed(named) if row.word == "kind"}
-    defs = {row.name: len(row.pairs) for row in reversed(named) if row.word == "def"}
-    params = {row.at: [name for name, kind in row.pairs] for row in rows if row.word == "def"}
-    for row in rows:
-        if row.word == "def":
-            for kind in [row.words[2]] + [kind for name, kind in row.pairs]:
-                if kind not in ("num", "truth") and kind not in kinds:
-                    faults.add((row.at, "nokind", kind))
-        for word, name, inner in all_exprs(row.e) if row.e else []:
-            if word in ("do", "new"):
-                there = defs if word == "do" else kinds
-                if name not in there:
-                    faults.add((row.at, "nofunc" if word == "do" else "nokind", name))
-                elif there[name] != len(inner):
-                    faults.add((row.at, "count", name))
-            if is_name(word) and word not in params.get(row.body, []):
-                above = [other for other in rows if other.word == "set" and other.body == row.body and other.at < row.at]
-                if word not in [other.name for other in above]:
-                    faults.add((row.at, "unset", word))
-    return sorted(faults)
-
-
-def some_expr(chance, deep=3):
-    word = chance.choice(("1", "x", "x", "y", "yes") if deep == 1 else ("1", "x", "x", "y", "z", "do", "do", "new", "new", "of", "+", "and", "not"))
-    if word in ("do", "new"):
-        inner = [some_expr(chance, deep - 1) for count in range(chance.choice((0, 1, 1, 2)))]
-        return [word, chance.choice("fgk" if word == "do" else "kpf")] + sum(inner, []) + ["."]
-    if word == "of":
-        return [word, chance.choice("uvx")] + some_expr(chance, deep - 1)
-    if word in ("+", "and"):
-        return [word] + some_expr(chance, deep - 1) + some_expr(chance, deep - 1)
-    return ["not"] + some_expr(chance, deep - 1) if word == "not" else [word]
-
-
-def some_row(chance, word):
-    if word == "kind":
-        return [word, chance.choice("kkpf")] + chance.choice(("", "u num", "v truth", "u num v truth")).split()
-    if word == "def":
-        params = chance.choice(("", "x num", "x k", "y p x num", "z truth", "y f"))
-        return [word, chance.choice("ffgk"), chance.choice(("num", "truth", "k", "k", "p"))] + params.split()
-    if word == "set":
-        return [word, chance.choice("xyz")] + some_expr(chance)
-    if word in ("tell", "give", "if", "while"):
-        return [word] + some_expr(chance)
-    return [word] if word else []
 
 
 class Twice(unittest.TestCase):
@@ -242,7 +187,7 @@ class Plain(unittest.TestCase):
         chance = random.Random(22)
         seen = {}
         for count in range(1500):
-            words = cut_rows(read_rows(shared_text(chance, 0, chance.randrange(1, 20), some_row, 0), 0), 0)
+            words = cut_rows(read_rows(shared_text(chance, 0, chance.randrange(1, 20), names_row, 0), 0), 0)
             told = plain_names(read_plain(words))
             self.assertEqual(told, due_names(words), words)
             for at, what, name in told:
@@ -318,7 +263,7 @@ class Shared(unittest.TestCase):
             chance = random.Random(n)
             seen = {}
             for count in range(300):
-                text = shared_text(chance, n, chance.randrange(1, 25), some_row, 0.01)
+                text = shared_text(chance, n, chance.randrange(1, 25), names_row, 0.01)
                 for mask, at, what, name in self.check(text, n, some_mask(chance, n)):
                     seen[what] = seen.get(what, 0) + 1
             if n > 0:
@@ -328,7 +273,7 @@ class Shared(unittest.TestCase):
         chance = random.Random(23)
         for n in range(3):
             for count in range(20):
-                text = shared_text(chance, n, 12, some_row, 0)
+                text = shared_text(chance, n, 12, names_row, 0)
                 for mask in range(full(n) + 1):
                     self.check(text, n, mask)
 
@@ -336,7 +281,7 @@ class Shared(unittest.TestCase):
         chance = random.Random(46)
         for n in (4, 5, 6):
             for count in range(6):
-                self.check(shared_text(chance, n, 30, some_row, 0.001), n, some_mask(chance, n))
+                self.check(shared_text(chance, n, 30, names_row, 0.001), n, some_mask(chance, n))
 
 
 class Own(unittest.TestCase):

@@ -8,89 +8,15 @@ import unittest
 from manymakes.errors import NoGroup, NoSet, TooMany
 from manymakes.masks import settings
 from manymakes.texts import cut_rows, cut_text, read_rows, variants
+from programs import LETTERS, cut_by_hand, full, grouped_row, read_by_hand
 
-LETTERS = "abcdefghij"
 EXAMPLE = "tell <a + 1 > x"
 NO_SETTINGS = (-1, -2 ** 70, 10 ** 5000, True, False, "0", "", None, [0], (0,), {}, 0.0, 1.5)
 
 
-def full(n):
-    return 2 ** 2 ** n - 1
-
-
-def holds(wish, s):
-    """Whether a WISH, read from the front, holds for a setting, and what is left behind it."""
-    sign, rest = wish[0], wish[1:]
-    if sign in "01":
-        return sign == "1", rest
-    if sign in LETTERS:
-        return s // 2 ** LETTERS.index(sign) % 2 == 1, rest
-    one, rest = holds(rest, s)
-    if sign == "!":
-        return not one, rest
-    other, rest = holds(rest, s)
-    if sign == "?":
-        third, rest = holds(rest, s)
-        return (other if one else third), rest
-    return {"&": one and other, "|": one or other, "^": one != other}[sign], rest
-
-
-def cut_by_hand(row, s):
-    """The words of a right row that stand in a setting, by points 11 and 13."""
-    out, around = [], []
-    for word in row.split(" ") if row else []:
-        if word == ">":
-            around.pop()
-        elif word[0] == "<":
-            around.append(holds(word[1:], s)[0])
-        elif all(around):
-            out.append(word)
-    return out
-
-
-def read_by_hand(row, n):
-    """The plain words of a right row with their masks, each put under its groups by hand."""
-    out, around = [], []
-    for word in row.split(" ") if row else []:
-        if word == ">":
-            around.pop()
-        elif word[0] == "<":
-            around.append(word[1:])
-        else:
-            out.append((word, sum(2 ** s for s in range(2 ** n) if all(holds(wish, s)[0] for wish in around))))
-    return out
-
-
-def some_wish(chance, n, deep=3):
-    leaves = ["0", "1"] + 4 * list(LETTERS[:n])
-    if deep == 1 or chance.random() < 0.4:
-        return chance.choice(leaves)
-    form = chance.choice("!&|^?" if n else "!&|^")
-    if form == "!":
-        return form + some_wish(chance, n, deep - 1)
-    ahead = form + chance.choice(LETTERS[:n]) if form == "?" else form
-    return ahead + some_wish(chance, n, deep - 1) + some_wish(chance, n, deep - 1)
-
-
-def some_row(chance, n, most=14):
-    """A row that is right, with groups in one another up to five deep."""
-    words, deep = [], 0
-    for count in range(chance.randrange(most)):
-        way = chance.choice("<<>www")
-        if way == "<" and deep < 5:
-            words.append("<" + some_wish(chance, n))
-            deep += 1
-        elif way == ">" and deep:
-            words.append(">")
-            deep -= 1
-        else:
-            words.append(chance.choice(["x", "tell", "+", "12", "~", "!", "a>", ">>", ">=", "x<a", "=<", "-", "\"", "\\"]))
-    return " ".join(words + [">"] * deep)
-
-
 def some_texts(n, many):
     chance = random.Random(n)
-    return ["\n".join(some_row(chance, n) for count in range(chance.randrange(1, 6))) for again in range(many)]
+    return ["\n".join(grouped_row(chance, n) for count in range(chance.randrange(1, 6))) for again in range(many)]
 
 
 class DocumentExample(unittest.TestCase):
@@ -385,7 +311,7 @@ class Variants(unittest.TestCase):
         for n in range(11):
             for count in range(60 if n < 6 else 6):
                 mask = chance.choice([full(n), chance.randrange(2 ** 2 ** n), chance.randrange(2 ** 2 ** n)])
-                self.check(some_row(chance, n, 9), mask, n)
+                self.check(grouped_row(chance, n, 9), mask, n)
 
     def test_every_mask_of_few_switches(self):
         for n in range(4):

@@ -7,8 +7,7 @@ import unittest
 from manymakes.errors import NoWish
 from manymakes.masks import every, switch_mask
 from manymakes.wishes import Wish, parse_wish, read_wish, shown_wish
-
-LETTERS = "abcdefghij"
+from programs import LETTERS, shown_by_hand
 
 
 def is_on(letter, s):
@@ -79,24 +78,6 @@ def any_wish(chance, n, deep):
     if form == "?" and n > 0:
         return chosen(chance.choice(LETTERS[:n]), one, other)
     return chance.choice([both, either, unlike])(one, other)
-
-
-def shown_by_hand(mask, n):
-    """Point 8 word for word, over the settings of the mask one by one."""
-    return shown_settings(frozenset(s for s in range(2 ** n) if mask // 2 ** s % 2 == 1), n)
-
-
-def shown_settings(held, n):
-    if not held:
-        return "0"
-    if len(held) == 2 ** n:
-        return "1"
-    for k in range(n):
-        if any((s in held) != (s ^ 2 ** k in held) for s in range(2 ** n)):
-            on = frozenset(s for s in range(2 ** n) if s | 2 ** k in held)
-            off = frozenset(s for s in range(2 ** n) if (s | 2 ** k) - 2 ** k in held)
-            return "?" + LETTERS[k] + shown_settings(on, n) + shown_settings(off, n)
-    raise AssertionError("a mask that is neither empty nor full hangs on a switch")
 
 
 def some_masks(n, many):
