@@ -149,8 +149,8 @@ def read_word(word, form):
     if form == "text":
         return word
     if form == "wish":
-        # A line feed, or another sign that no word has, is of no form, as a blank is.
-        if any([sign < "!" or sign > "~" for sign in word]):
+        # A line feed is no sign of a word: so it is of no form, as a blank is.
+        if any([sign < "!" for sign in word]):
             raise NoOrder("this is no word")
         return word
     if not is_number(word) or len(word) > LONGEST_NUMBER:

@@ -200,8 +200,8 @@ NO_FORMS = (
     "runs 1000000", "runs -1", "runs x", "runs 1.",
     # More steps than there may be.
     "run 0 401", "run 0 1000", "run 0 999999", "runs 401", "runs 500", "runs 999999", "run 999999 401",
-    # Line feeds, but for a TEXT.
-    "text\n", "\ntext", "switches 1\n", "switches\n1", "cut 0\n", "run 0 1\n", "runs 1\n", "dead\ndead", "part\n",
+    # Line feeds, and what else is no sign of a word, but for a TEXT.
+    "rule 1\n", "rule \n", "rule\n1", "rule 1\t", "wish \n1", "wish 1\n0", "wish \t", "text\n", "\ntext", "switches 1\n", "switches\n1", "cut 0\n", "run 0 1\n", "runs 1\n", "dead\ndead", "part\n",
 )
 
 
